@@ -1,0 +1,44 @@
+"""What the tests of several modules need."""
+
+import copy
+import itertools
+
+WORDS = ["ant", "bee", "cow", "dog", "eel", "fox"]
+
+
+def speeches_upto(words, most):
+    """All speeches of none to most words, made of these words, the short ones first."""
+    return [list(row) for many in range(most + 1) for row in itertools.product(words, repeat=many)]
+
+
+def long_speech(many, unlike=6, seed=1):
+    """A speech of many words that looks like chance, but is the same each time."""
+    speech = []
+    for _ in range(many):
+        seed = (seed * 1103515245 + 12345) % 2 ** 31
+        speech.append(WORDS[(seed >> 16) % unlike])
+    return speech
+
+
+def told_fresh(case, asked, *handed):
+    """What is told, having looked that asking changes nothing and tells a new list each time [3]."""
+    kept = copy.deepcopy(handed)
+    told = asked(*handed)
+    again = asked(*handed)
+    case.assertEqual(told, again)
+    case.assertEqual(handed, kept, "what was handed in was changed")
+    expected = copy.deepcopy(told)
+    spoil_lists(told)
+    case.assertEqual(again, expected, "a list that was told is not the asker's own")
+    case.assertEqual(handed, kept, "a list that was told is one that was handed in")
+    case.assertEqual(asked(*handed), expected, "a list that was told is kept by the program")
+    return expected
+
+
+def spoil_lists(thing):
+    """Puts something into each list within."""
+    if isinstance(thing, (list, tuple)):
+        for part in thing:
+            spoil_lists(part)
+    if isinstance(thing, list):
+        thing.append("spoilt")

@@ -1,0 +1,1 @@
+"""Twicesaid: what is said twice running is said once."""
