@@ -42,3 +42,20 @@ def spoil_lists(thing):
             spoil_lists(part)
     if isinstance(thing, list):
         thing.append("spoilt")
+
+
+def strikes_by_definition(speech):
+    """All strikes of a speech, as the document defines them and without haste."""
+    found = []
+    size = len(speech)
+    for at in range(size):
+        for many in range(1, size - at + 1):
+            y, rest = speech[at:at + many], speech[at + many:]
+            if rest[:many] == y:
+                found.append(("twice", at, many))
+            for ahead in range(1, at + 1):
+                for behind in range(1, len(rest) + 1):
+                    x, z = speech[at - ahead:at], rest[:behind]
+                    if set(x) == set(z) and set(y) <= set(x):
+                        found.append(("between", at, many, ahead, behind))
+    return found

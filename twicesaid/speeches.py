@@ -48,10 +48,10 @@ def has_piece(speech, at, many):
 
 def stands_twice(speech, at, many):
     """Whether the pieces (at, many) and (at + many, many) are there, and the same."""
-    between = at + many
-    if not has_piece(speech, at, many) or not has_piece(speech, between, many):
+    # Side by side the two are a piece of twice as many words.
+    if not has_piece(speech, at, 2 * many):
         return False
-    return speech[at:between] == speech[between:between + many]
+    return speech[at:at + many] == speech[at + many:at + 2 * many]
 
 
 def doubled(speech, at, many):
