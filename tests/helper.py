@@ -4,6 +4,8 @@ import copy
 import itertools
 
 WORDS = ["ant", "bee", "cow", "dog", "eel", "fox"]
+# How many things none to six words mean, all of them said [9].
+THINGS = [1, 1, 4, 144, 331776, 2751882854400, 272622932796264897576960000]
 
 
 def speeches_upto(words, most):
@@ -18,6 +20,12 @@ def long_speech(many, unlike=6, seed=1):
         seed = (seed * 1103515245 + 12345) % 2 ** 31
         speech.append(WORDS[(seed >> 16) % unlike])
     return speech
+
+
+def far_numbers(many):
+    """Some numbers below many: the first, the last, and others far apart."""
+    chosen = {0, 1, many // 7, many // 3, many // 2, 5 * many // 8, many - 2, many - 1}
+    return sorted(number for number in chosen if 0 <= number < many)
 
 
 def told_fresh(case, asked, *handed):

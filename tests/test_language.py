@@ -37,6 +37,10 @@ def names_bound(tree):
     return names
 
 
+def trees():
+    return [(path.name, ast.parse(path.read_text())) for path in files()]
+
+
 class Language(unittest.TestCase):
     def test_the_folder_has_nothing_but_files_of_python(self):
         others = [p.name for p in PACKAGE.iterdir() if p.suffix != ".py" and p.name != "__pycache__"]
@@ -96,6 +100,43 @@ class Language(unittest.TestCase):
             for node in ast.walk(ast.parse(path.read_text())):
                 if isinstance(node, ast.Call) and isinstance(node.func, ast.Attribute):
                     self.assertIn(node.func.attr, own | set(METHODS), (path.name, node.lineno))
+
+    def test_no_variable_has_the_name_of_an_import_or_a_class(self):
+        for name, tree in trees():
+            taken = {alias.asname or alias.name for node in tree.body if isinstance(node, ast.ImportFrom)
+                     for alias in node.names}
+            taken |= {node.name for node in tree.body if isinstance(node, ast.ClassDef)}
+            bound = [node.id for node in ast.walk(tree)
+                     if isinstance(node, ast.Name) and not isinstance(node.ctx, ast.Load)]
+            bound += [node.arg for node in ast.walk(tree) if isinstance(node, ast.arg)]
+            self.assertEqual(taken & set(bound), set(), name)
+
+    def test_no_name_is_a_method_and_an_attribute(self):
+        methods, attributes = set(), set()
+        for _, tree in trees():
+            for node in ast.walk(tree):
+                if isinstance(node, ast.ClassDef):
+                    methods.update(row.name for row in node.body if isinstance(row, ast.FunctionDef))
+                if isinstance(node, ast.Attribute) and not isinstance(node.ctx, ast.Load):
+                    attributes.add(node.attr)
+        self.assertEqual(methods & attributes, set())
+
+    def test_each_import_names_the_file_that_defines_the_name(self):
+        defined = {name: names_bound(tree) - {alias.name for node in tree.body if isinstance(node, ast.ImportFrom)
+                                              for alias in node.names} for name, tree in trees()}
+        for name, tree in trees():
+            for node in tree.body:
+                if isinstance(node, ast.ImportFrom):
+                    for alias in node.names:
+                        self.assertIn(alias.name, defined[node.module.split(".")[1] + ".py"], name)
+
+    def test_no_files_import_from_each_other(self):
+        above = {name: {node.module.split(".")[1] + ".py" for node in tree.body if isinstance(node, ast.ImportFrom)}
+                 for name, tree in trees()}
+        while above:
+            ready = [name for name in above if not above[name] & set(above)]
+            self.assertNotEqual(ready, [], sorted(above))
+            above = {name: above[name] for name in above if name not in ready}
 
     def test_truths_are_asked_of_lists(self):
         """Where a class is comparable, `all`, `any` and their kin take lists instead of generators."""
