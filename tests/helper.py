@@ -1,7 +1,11 @@
 """What the tests of several modules need."""
 
 import copy
+import functools
 import itertools
+
+from twicesaid.numbers import speech_of
+from twicesaid.shortest import shortest
 
 WORDS = ["ant", "bee", "cow", "dog", "eel", "fox"]
 # How many things none to six words mean, all of them said [9].
@@ -67,3 +71,53 @@ def strikes_by_definition(speech):
                     if set(x) == set(z) and set(y) <= set(x):
                         found.append(("between", at, many, ahead, behind))
     return found
+
+
+def chance_numbers(most, many, seed=1):
+    """Numbers below most that look like chance, but are the same each time."""
+    told = []
+    for _ in range(many):
+        number = 0
+        for _ in range(4):
+            seed = (seed * 1103515245 + 12345) % 2 ** 31
+            number = (number << 24) + (seed >> 7)
+        told.append(number % most)
+    return told
+
+
+def chance_meanings(unlike, many, seed=1):
+    """Shortest speeches, as a rule long ones, of so many unlike words."""
+    return [speech_of(WORDS[:unlike], number) for number in chance_numbers(THINGS[unlike], many, seed)]
+
+
+@functools.cache
+def kept_meanings(many):
+    rows = [part for size in range(many + 1) for part in itertools.combinations(WORDS[:many], size)]
+    return tuple(tuple(speech_of(list(part), number)) for part in rows for number in range(THINGS[len(part)]))
+
+
+def meanings_upto(many):
+    """The shortest speeches of all things that can be said with the first so many words, silence first."""
+    return [list(row) for row in kept_meanings(many)]
+
+
+def near_pairs(unlike, many, seed=1):
+    """Pairs of speeches of the same words that aren't alike; some of them differ in what is hard to hear only."""
+    pairs = []
+    things = THINGS[unlike]
+    steps = [1, 2, 7, 144, things // unlike, things // 3 + 1, *chance_numbers(things, 4, seed + 5)]
+    for at, number in enumerate(chance_numbers(things, many, seed)):
+        other = (number + steps[at % len(steps)]) % things
+        if other != number:
+            pairs.append((speech_of(WORDS[:unlike], number), speech_of(WORDS[:unlike], other)))
+    return pairs
+
+
+def open_pairs(unlike, many, seed=1):
+    """Pairs (u, v) that aren't alike, of which v comes on of u."""
+    pairs = []
+    for at, u in enumerate(chance_meanings(unlike, many, seed)):
+        v = shortest(u + long_speech(1 + at % 9, unlike, seed + at))
+        if u != v:
+            pairs.append((u, v))
+    return pairs
