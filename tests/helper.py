@@ -121,3 +121,21 @@ def open_pairs(unlike, many, seed=1):
         if u != v:
             pairs.append((u, v))
     return pairs
+
+
+class Odd:
+    """A thing that is none of the kinds; it is equal to no copy of itself."""
+
+
+ODD = Odd()
+NO_WORDS = [None, True, False, 0, 1, -1, 10 ** 59, "", " ", "Ant", "ANT", "ant ", " ant", "ant bee", "abcdefghi", "a1",
+            "-", "a-b", "ant\n", "1", b"ant", b"", [], ["ant"], (), ("ant",), {}, {"ant": "ant"}, set(), ODD, Odd, str,
+            len]
+NO_NUMBERS = [None, True, False, -1, -2, -10 ** 59, "", "0", "1", "ant", b"0", [], [0], (), (0,), {}, {0: 0}, set(),
+              ODD, Odd, int, len]
+NO_SPEECHES = [None, True, False, 0, 1, "", "ant", "-", b"", (), ("ant",), {}, {"ant": "ant"}, set(), {"ant"}, ODD, Odd,
+               list, [None], [""], ["Ant"], ["ant", 1], ["ant", True], ["ant", ["bee"]], [["ant"]], [("ant",)], [{}],
+               ["ant bee"], ["ant"] * 301, ["abcdefghi"], [*WORDS, "gnat"], [ODD], [b"ant"], [[[[[]]]]]]
+NO_DEAF = [None, True, False, 0, 1, "", "ant", b"", [], ["ant"], {}, {"ant": "ant"}, set(), {"ant"}, ODD, Odd, tuple,
+           (None,), ("",), ("Ant",), ("ant", 1), (True,), (["ant"],), (("ant",),), ({},), ("ant bee",), ("ant", "ant"),
+           ("ant", "bee", "ant"), ("abcdefghi",), (*WORDS, "gnat"), (ODD,), (b"ant",), ((((),),),)]

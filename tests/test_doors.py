@@ -205,7 +205,8 @@ class Doors(unittest.TestCase):
             self.looked_at((one * 200)[:300], (other * 200)[:300])
 
     def test_what_is_told_is_the_askers_own(self):
-        pairs = [([], []), ([], WORDS), (["ant"], ["bee"]), (WORDS, WORDS + ["ant"]), *near_pairs(4, 6), *open_pairs(3, 6)]
+        pairs = [([], []), ([], WORDS), (["ant"], ["bee"]), (WORDS, WORDS + ["ant"]), *near_pairs(4, 6),
+                 *open_pairs(3, 6)]
         for one, other in pairs:
             told_fresh(self, lambda u, v: shown(door(u, v)), one, other)
 

@@ -45,7 +45,8 @@ class Four(unittest.TestCase):
     def test_three_words(self):
         # Its first half is (ant bee, cow), the twin of that (ant bee ant, cow); its last half is (ant, bee cow), the
         # twin of that (ant, cow bee cow).
-        expected = ["ant bee ant cow ant bee cow", "ant bee ant cow bee cow", "ant bee cow", "ant bee cow ant cow bee cow"]
+        expected = ["ant bee ant cow ant bee cow", "ant bee ant cow bee cow", "ant bee cow",
+                    "ant bee cow ant cow bee cow"]
         self.assertEqual(self.looked_at(["ant", "bee", "cow"]), [row.split() for row in expected])
 
     def test_no_others(self):

@@ -10,6 +10,10 @@ def is_whole(thing):
     return isinstance(thing, int) and not isinstance(thing, bool)
 
 
+def is_number(thing):
+    return is_whole(thing) and thing >= 0
+
+
 def is_word(thing):
     if not isinstance(thing, str):
         return False

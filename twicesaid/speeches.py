@@ -34,6 +34,11 @@ def replaced(speech, table):
     told = []
     for word in speech:
         told.extend(table.get(word, [word]))
+    return within(told)
+
+
+def within(told):
+    """The list of words itself, refused where it is too much for a speech."""
     if len(set(told)) > MOST_UNLIKE:
         raise TooMany(MOST_UNLIKE)
     if len(told) > LONGEST_SPEECH:
